@@ -1,0 +1,1 @@
+"""Roundsalone: nets known by their rounds alone."""
