@@ -4,16 +4,12 @@ import itertools
 import unittest
 
 from roundsalone.rows import is_name, is_row, meets_evenly, summed
+from tests.brute import every_row
 
 SIGNS = "abcdefghijklmnopqrstuvwxyz0123456789"
 OTHER_SIGNS = "".join(chr(at) for at in range(32, 127) if chr(at) not in SIGNS)
 FAR_SIGNS = "\n\t\x00\u00e4\u00df\u0430\u0661\u00b2\u2160\uff41"
 NO_TEXTS = (0, 1, -1, 7, True, False, None, [], ["a"], [["a"]], (), ("a",), (("a",),))
-
-
-def every_row(names):
-    """All rows of some names."""
-    return [list(some) for many in range(len(names) + 1) for some in itertools.combinations(names, many)]
 
 
 class Names(unittest.TestCase):

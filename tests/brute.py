@@ -1,0 +1,120 @@
+"""What the document's words say, found by going through all there is; nothing of the package is used here."""
+
+import itertools
+import random
+
+LETTERS = "abcdefghijklmnopqrstuvwxyz"
+
+
+def every_row(names):
+    """All rows of some names."""
+    return [list(some) for many in range(len(names) + 1) for some in itertools.combinations(names, many)]
+
+
+def sum_of(rows):
+    """The sum of some rows, as a frozenset."""
+    told = frozenset()
+    for row in rows:
+        told = told ^ frozenset(row)
+    return told
+
+
+def span(table):
+    """All sums of some of the rows, as a set of frozensets."""
+    told = {frozenset()}
+    for row in table[1]:
+        told = told | {one ^ frozenset(row) for one in told}
+    return told
+
+
+def crossed_span(table):
+    """All rows of the names that meet each row of the span evenly."""
+    evens = span(table)
+    rows = [frozenset(row) for row in every_row(table[0])]
+    return {row for row in rows if all(len(row & even) % 2 == 0 for even in evens)}
+
+
+def in_order(sets):
+    """Rows of sets of names: fewer names first, then as lists are."""
+    return sorted([sorted(one) for one in sets], key=lambda row: (len(row), row))
+
+
+def minimal(sets):
+    """Those that aren't empty and within which no other one lies but the empty one."""
+    full = [one for one in sets if one]
+    return [one for one in full if not any(other < one for other in full)]
+
+
+def rank_of(table, names):
+    """The greatest number of the names in which no round lies."""
+    found = minimal(span(table))
+    return max(len(row) for row in every_row(names) if not any(one <= frozenset(row) for one in found))
+
+
+def taken(names, evens, name):
+    """Names and span, the name taken out."""
+    return [one for one in names if one != name], {even for even in evens if name not in even}
+
+
+def shrunk(names, evens, name):
+    """Names and span, the name shrunk."""
+    return [one for one in names if one != name], {even - {name} for even in evens}
+
+
+def small_tables():
+    """All tables of at most three names, each of at most three rows."""
+    for many in range(4):
+        names = list(LETTERS[:many])
+        for count in range(4):
+            for rows in itertools.product(every_row(names), repeat=count):
+                yield (list(names), [list(row) for row in rows])
+
+
+def chance_row(chance, names, part):
+    return [name for name in names if chance.random() < part]
+
+
+def chance_tables(seed, many, most_names):
+    """Some tables of four names or more, always the same for the same seed."""
+    chance = random.Random(seed)
+    for turn in range(many):
+        names = sorted(chance.sample(["a", "a1", "b", "c7", "d", "e", "f", "g", "h", "9", "10", "zz"],
+                                     chance.randint(4, most_names)))
+        part = chance.choice([0.2, 0.4, 0.6])
+        yield (names, [chance_row(chance, names, part) for row in range(chance.randint(0, 7))])
+
+
+def chance_nets(seed, many, most_ties):
+    """Some nets, loops and ties beside one another among them, always the same for the same seed."""
+    chance = random.Random(seed)
+    for turn in range(many):
+        ties = sorted(chance.sample(LETTERS, chance.randint(0, most_ties)))
+        places = chance.sample(["p", "q", "a", "b", "10", "9", "zz", "t0"], chance.randint(1, 8))
+        yield [(tie, *sorted(chance.choices(places, k=2))) for tie in ties]
+
+
+def other_rows(table, seed):
+    """The same table by other rows of the same span."""
+    chance = random.Random(seed)
+    rows = [list(row) for row in table[1]]
+    for turn in range(3 * len(rows)):
+        one, other = chance.randrange(len(rows)), chance.randrange(len(rows))
+        if one != other:
+            rows[one] = sorted(sum_of([rows[one], rows[other]]))
+    chance.shuffle(rows)
+    return (list(table[0]), rows + [[]] + rows[:1])
+
+
+def lists_in(thing):
+    """All lists in a thing, itself and those within tuples and lists."""
+    if not isinstance(thing, (list, tuple)):
+        return []
+    return ([thing] if isinstance(thing, list) else []) + [one for part in thing for one in lists_in(part)]
+
+
+def spoil(thing):
+    """Changes every list in a thing."""
+    for one in lists_in(thing):
+        one.reverse()
+        one.append("spoilt")
+        one.insert(0, 7)

@@ -1,0 +1,88 @@
+"""Point 2: nothing that is handed in is changed, and every list that is told is the asker's own."""
+
+import copy
+import unittest
+
+from roundsalone.houses import even_sets, rank, rounds, walls
+from roundsalone.nets import is_net, pieces, points, star, stars, table_of
+from roundsalone.rows import is_name, is_row, meets_evenly, summed
+from roundsalone.spans import alike, crossed, is_table, steps, within
+from roundsalone.takings import left, shrunk, taken_out
+from tests.brute import chance_nets, chance_tables, lists_in, spoil
+
+STEPPED = (["a", "b", "c"], [["a", "c"], ["b", "c"]])
+NET = [("a", "p", "q"), ("b", "p", "q"), ("c", "r", "r")]
+
+
+def asked_of_a_table(table):
+    """The functions that ask of a table, with what is handed in."""
+    names = table[0]
+    yield from ((is_table, (table,)), (steps, (table,)), (crossed, (table,)), (even_sets, (table,)))
+    yield from ((rounds, (table,)), (walls, (table,)), (rank, (table, names[1:])), (rank, (table, list(names))))
+    yield from ((alike, (table, table)), (alike, (table, (list(names), []))))
+    yield from ((within, (table, row)) for row in (names[:1], names[1:], [], *table[1]))
+    yield from ((left, (table, [], [])), (left, (table, names[:2], names[2:3])))
+    yield from ((deed, (table, name)) for deed in (taken_out, shrunk) for name in names)
+
+
+def asked_of_a_net(net):
+    """The functions that ask of a net, with what is handed in."""
+    yield from ((deed, (net,)) for deed in (is_net, points, stars, pieces, table_of))
+    yield from ((star, (net, point)) for tie in net for point in tie[1:])
+
+
+def asked_of_rows():
+    yield from ((is_name, (["a"],)), (is_row, (["a", "b"],)), (is_row, (["b", "a"],)))
+    yield from ((summed, ([["a", "b"]],)), (summed, ([],)), (summed, ([["b"], ["a"], []],)))
+    yield (meets_evenly, (["a"], ["a", "b"]))
+
+
+def all_asked():
+    yield from asked_of_rows()
+    for table in [STEPPED, ([], []), (["a"], []), (["a"], [["a"], ["a"]]), *chance_tables(15, 20, 8)]:
+        yield from asked_of_a_table(table)
+    for net in [NET, [], *chance_nets(16, 20, 8)]:
+        yield from asked_of_a_net(net)
+
+
+class OwnLists(unittest.TestCase):
+
+    def test_what_is_handed_in_stays(self):
+        for deed, handed in all_asked():
+            kept = copy.deepcopy(handed)
+            deed(*handed)
+            self.assertEqual(handed, kept, deed)
+
+    def test_no_list_stands_at_two_places_or_is_one_handed_in(self):
+        for deed, handed in all_asked():
+            told = deed(*handed)
+            places = [id(one) for one in lists_in(told)]
+            self.assertEqual(len(places), len(set(places)), (deed, handed))
+            self.assertFalse(set(places) & {id(one) for one in lists_in(handed)}, (deed, handed))
+
+    def test_changing_what_is_told_changes_no_later_answer(self):
+        for deed, handed in all_asked():
+            told = deed(*handed)
+            kept = copy.deepcopy((told, handed))
+            spoil(told)
+            self.assertEqual(handed, kept[1], deed)
+            self.assertEqual(deed(*handed), kept[0], (deed, handed))
+
+    def test_changing_what_was_handed_in_changes_no_answer(self):
+        for deed, handed in all_asked():
+            kept, mine = copy.deepcopy(handed), copy.deepcopy(handed)
+            told = deed(*mine)
+            first = copy.deepcopy(told)
+            spoil(mine)
+            self.assertEqual(told, first, (deed, handed))
+            self.assertEqual(deed(*kept), first, (deed, handed))
+
+    def test_what_was_told_may_be_handed_in_again(self):
+        for table in chance_tables(17, 40, 8):
+            for told in (crossed(table), left(table, table[0][:1], table[0][1:2]), crossed(crossed(table))):
+                self.assertEqual(left(told, [], []), told)
+                self.assertEqual(steps(told), told[1])
+
+
+if __name__ == "__main__":
+    unittest.main()
