@@ -93,6 +93,51 @@ def chance_nets(seed, many, most_ties):
         yield [(tie, *sorted(chance.choices(places, k=2))) for tie in ties]
 
 
+def net_span(net):
+    """All rows of ties that each point's star meets evenly, loops not counted."""
+    told = set()
+    for row in every_row([tie for tie, one, other in net]):
+        ends = [point for tie, one, other in net if tie in row and one != other for point in (one, other)]
+        if all(ends.count(point) % 2 == 0 for point in ends):
+            told.add(frozenset(row))
+    return told
+
+
+def blocks_of(names, evens):
+    """The blocks, by putting together what some round has until nothing changes."""
+    told = [{name} for name in names]
+    for one in minimal(evens):
+        met = [block for block in told if block & one]
+        told = [block for block in told if not block & one] + [set().union(*met)]
+    return sorted(sorted(block) for block in told)
+
+
+def within_block(evens, block):
+    """The even sets that lie in a block."""
+    return {even for even in evens if even <= set(block)}
+
+
+def quick_rank(evens, names):
+    """The rank by counting: the even sets that lie in the names are as many as two by itself so often as steps are."""
+    return len(names) + 1 - len(within_block(evens, names)).bit_length()
+
+
+def is_parting(names, evens, row):
+    """Whether a row parts a block of these names."""
+    rest = [name for name in names if name not in row]
+    if len(row) < 2 or len(rest) < 2:
+        return False
+    return quick_rank(evens, row) + quick_rank(evens, rest) == quick_rank(evens, names) + 1
+
+
+def one_block_tables(tables):
+    """The tables of the blocks of some tables."""
+    for table in tables:
+        evens = span(table)
+        for block in blocks_of(table[0], evens):
+            yield (block, in_order(within_block(evens, block)))
+
+
 def other_rows(table, seed):
     """The same table by other rows of the same span."""
     chance = random.Random(seed)

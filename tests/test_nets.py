@@ -6,7 +6,7 @@ import unittest
 from roundsalone.houses import rounds, walls
 from roundsalone.nets import is_net, pieces, points, star, stars, table_of
 from roundsalone.spans import steps
-from tests.brute import LETTERS, chance_nets, every_row, span
+from tests.brute import LETTERS, chance_nets, net_span, span
 
 TRIANGLE = [("a", "p", "q"), ("b", "q", "r"), ("c", "p", "r")]
 MIXED = [("a", "p", "p"), ("b", "p", "q"), ("c", "p", "q"), ("d", "x", "y"), ("e", "z", "z"), ("f", "q", "q")]
@@ -135,6 +135,21 @@ class Stars(unittest.TestCase):
             other = [(tie, *sorted([called[one], called[two]])) for tie, one, two in net]
             self.assertEqual(stars(other), stars(net), net)
 
+    def test_nets_of_the_same_stars_are_the_same_but_for_the_names_of_points(self):
+        pairs = list(itertools.combinations_with_replacement("pqr", 2))
+        by_stars = {}
+        for ends in itertools.product(pairs, repeat=4):
+            net = [(tie, *two) for tie, two in zip("abcd", ends)]
+            first = by_stars.setdefault(str(stars(net)), net)
+            self.assertTrue(any(called_otherwise(net, places) == first
+                                for places in itertools.permutations(points(first))), (net, first))
+
+
+def called_otherwise(net, places):
+    """The net, its points called by the places one after the other."""
+    called = dict(zip(points(net), places, strict=True))
+    return [(tie, *sorted([called[one], called[other]])) for tie, one, other in net]
+
 
 def hanging(net):
     """The pieces, by putting together what has a common point until nothing changes."""
@@ -166,17 +181,6 @@ class Pieces(unittest.TestCase):
             self.assertEqual(pieces(net), hanging(net), net)
 
 
-def met_evenly_by_all_stars(net):
-    """All rows of ties that each point's star meets evenly, loops not counted."""
-    rows = [frozenset(row) for row in every_row([tie for tie, one, other in net])]
-    told = set()
-    for row in rows:
-        ends = [point for tie, one, other in net if tie in row and one != other for point in (one, other)]
-        if all(ends.count(point) % 2 == 0 for point in ends):
-            told.add(row)
-    return told
-
-
 class Tables(unittest.TestCase):
 
     def test_written_ones(self):
@@ -192,7 +196,7 @@ class Tables(unittest.TestCase):
             told = table_of(net)
             self.assertIsInstance(told, tuple)
             self.assertEqual(told[0], [tie for tie, one, other in net], net)
-            self.assertEqual(span(told), met_evenly_by_all_stars(net), net)
+            self.assertEqual(span(told), net_span(net), net)
 
     def test_its_rows_are_its_steps(self):
         for net in all_nets():
