@@ -93,6 +93,70 @@ def chance_nets(seed, many, most_ties):
         yield [(tie, *sorted(chance.choices(places, k=2))) for tie in ties]
 
 
+def grown_block(chance, most):
+    """Pairs of points: a tie, of which rings, bundles and wholes have grown, of not more than so many ties."""
+    pairs, more = [(0, 1), (0, 1)], 2
+    goal = chance.randint(2, most)
+    while len(pairs) < goal:
+        one, other = chance.choice(pairs)
+        deed = chance.choice(["ring", "bundle", "whole"])
+        if deed == "ring":
+            pairs.remove((one, other))
+            pairs += [(one, more), (more, other)]
+        elif deed == "bundle":
+            pairs += [(one, other)]
+        elif len(pairs) + 4 <= most:
+            pairs.remove((one, other))
+            pairs += [(one, more), (one, more + 1), (more, other), (more + 1, other), (more, more + 1)]
+        more += 2
+    return pairs
+
+
+def grown_nets(seed, many, most_ties):
+    """Some nets of blocks that have grown, in one piece or several, always the same for the same seed."""
+    chance = random.Random(seed)
+    for turn in range(many):
+        groups, room = [], most_ties
+        while room > 0 and (not groups or chance.random() < 0.5):
+            block = chance.choice([[(0, 0)], [(0, 1)]]) if room < 3 or chance.random() < 0.3 else \
+                grown_block(chance, room)
+            groups.append([(f"{len(groups)}x{one}", f"{len(groups)}x{other}") for one, other in block])
+            room -= len(block)
+        pairs = groups[0]
+        for group in groups[1:]:
+            # The first point of a further block lies on one of those ahead, or is one of its own.
+            places = [group[0][0], chance.choice(chance.choice(pairs))]
+            spot = chance.choice(places)
+            pairs = pairs + [tuple(spot if end == places[0] else end for end in pair) for pair in group]
+        chance.shuffle(pairs)
+        yield [(tie, *sorted(pair)) for tie, pair in zip(LETTERS, pairs)]
+
+
+def lumps(net, places):
+    """The ties in lumps that hang together by other points than the places."""
+    groups = [({tie}, {one, other} - set(places)) for tie, one, other in net]
+    told = []
+    while groups:
+        ties, ends = groups.pop()
+        met = [group for group in groups if group[1] & ends]
+        if met:
+            groups = [group for group in groups if group not in met]
+            groups.append((ties.union(*[one[0] for one in met]), ends.union(*[one[1] for one in met])))
+        else:
+            told.append(sorted(ties))
+    return sorted(told)
+
+
+def chance_step(chance, net, word):
+    """Something of the form of a step that can be done now and then."""
+    places = sorted({end for tie, *ends in net for end in ends})
+    if word == "together":
+        return (word, chance.choice(places), chance.choice(places))
+    spots = chance.sample(places, min(len(places), 2 if word == "turn" else 1))
+    ties = sorted(tie for lump in lumps(net, spots) if chance.random() < 0.5 for tie in lump)
+    return (word, ties) if word == "turn" else (word, spots[0], ties, f"n{chance.randrange(1000)}")
+
+
 def net_span(net):
     """All rows of ties that each point's star meets evenly, loops not counted."""
     told = set()

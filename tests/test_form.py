@@ -97,8 +97,26 @@ class Form(unittest.TestCase):
             if isinstance(node, ast.Name) and hasattr(builtins, node.id):
                 self.assertIn(node.id, OWN_NAMES, where)
             for name in bound_names(node):
-                self.assertFalse(hasattr(builtins, name), (where, name))
                 self.assertRegex(name, r"^([A-Za-z]\w*|__(init|eq|repr|str|len)__)$", where)
+                self.assertFalse(hasattr(builtins, name) and name[0] != "_", (where, name))
+
+    def test_no_local_is_called_like_an_import_or_a_class(self):
+        for path in files():
+            tree = ast.parse(path.read_text())
+            drawn = [alias.name for node in tree.body if isinstance(node, ast.ImportFrom) for alias in node.names]
+            taken = set(drawn) | {node.name for node in tree.body if isinstance(node, ast.ClassDef)}
+            for node in ast.walk(tree):
+                if not isinstance(node, ast.ClassDef):
+                    self.assertFalse(taken & set(bound_names(node)), (path.name, getattr(node, "lineno", 0)))
+
+    def test_no_name_is_a_method_and_a_value(self):
+        methods, values = set(), set()
+        for where, node in all_nodes():
+            if isinstance(node, ast.ClassDef):
+                methods |= {part.name for part in node.body if isinstance(part, ast.FunctionDef)}
+            if isinstance(node, ast.Attribute) and isinstance(node.ctx, ast.Store):
+                values.add(node.attr)
+        self.assertFalse(methods & values)
 
     def test_methods(self):
         own = {node.name for where, node in all_nodes() if isinstance(node, ast.FunctionDef)}

@@ -4,16 +4,17 @@ import copy
 import unittest
 
 from roundsalone.blocks import block_table, blocks, crosses, is_parting
-from roundsalone.errors import NoRound, NoStep
+from roundsalone.errors import NoMatch, NoRound, NoStep
 from roundsalone.houses import even_sets, rank, rounds, walls
 from roundsalone.nets import is_net, pieces, points, star, stars, table_of
 from roundsalone.parts import part_table, parts
+from roundsalone.roads import road
 from roundsalone.rows import is_name, is_row, meets_evenly, summed
 from roundsalone.spans import alike, crossed, is_table, steps, within
 from roundsalone.steps import step_done
 from roundsalone.takings import left, shrunk, taken_out
 from roundsalone.woods import cut, walk, wood
-from tests.brute import chance_nets, chance_tables, lists_in, one_block_tables, spoil
+from tests.brute import chance_nets, chance_tables, grown_nets, lists_in, lumps, one_block_tables, spoil
 
 STEPPED = (["a", "b", "c"], [["a", "c"], ["b", "c"]])
 NET = [("a", "p", "q"), ("b", "p", "q"), ("c", "r", "r")]
@@ -53,6 +54,18 @@ def asked_of_a_net(net):
     yield from ((walk, (net, rows[0] + ["zzz"])), (step_done, (net, ["turn", rows[0]]))) if rows else ()
 
 
+def asked_of_two_nets(net):
+    """The road to a net, to one of fewer ties, to one whose ties lie otherwise, and from it."""
+    other = [(tie, *ends) for (tie, *old), (name, *ends) in zip(net, net[1:] + net[:1])]
+    yield from ((road, two) for two in ((net, net), (net, net[1:]), (net, other), (other, net)))
+    rows = [lump for point in points(net) for lump in lumps(net, [point, points(net)[0]])]
+    aparts = [("apart", point, row, "n") for point in points(net) for row in rows]
+    for step in [*(("turn", row) for row in rows), *aparts]:
+        behind = answer(step_done, (net, step))
+        if behind != "refused":
+            yield from ((road, (net, behind)), (road, (behind, net)))
+
+
 def asked_of_rows():
     yield from ((is_name, (["a"],)), (is_row, (["a", "b"],)), (is_row, (["b", "a"],)))
     yield from ((summed, ([["a", "b"]],)), (summed, ([],)), (summed, ([["b"], ["a"], []],)))
@@ -67,13 +80,15 @@ def all_asked():
         yield from asked_of_a_block(table)
     for net in [NET, [], *chance_nets(16, 20, 8)]:
         yield from asked_of_a_net(net)
+    for net in [NET, [], *grown_nets(19, 12, 8)]:
+        yield from asked_of_two_nets(net)
 
 
 def answer(deed, handed):
     """What is told, or that it is refused."""
     try:
         return deed(*handed)
-    except (NoRound, NoStep):
+    except (NoMatch, NoRound, NoStep):
         return "refused"
 
 
