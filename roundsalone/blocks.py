@@ -26,21 +26,24 @@ def is_single(mask):
     return mask & (mask - 1) == 0
 
 
-def splits(steps, one, rest):
-    """Whether two masks, that have all bits of the steps between them, part what the steps span."""
-    if is_single(one) or is_single(rest):
-        return False
+def splits(steps, one, rest, met):
+    """Whether two masks, that have all bits of the steps between them, part what the steps span.
+
+    Told is to how many steps comes what the steps have of the one, and of the other, both counted together.
+    """
     # A rank is the names less the steps that lie in them, and these are all steps less what they have in the rest;
     # so the two ranks come to one more than the whole's just where this comes to one more than the steps.
-    met = [len(reduced([step & some for step in steps])) for some in (one, rest)]
-    return sum(met) == len(steps) + 1
+    return met == len(steps) + 1 and not is_single(one) and not is_single(rest)
 
 
 def is_parting(table, row):
     """Whether a row parts a table that is one block."""
     names = table[0]
-    rest = [name for name in names if name not in row]
-    return splits(step_masks(table), mask_of(names, row), mask_of(names, rest))
+    steps = step_masks(table)
+    one = mask_of(names, row)
+    rest = mask_of(names, [name for name in names if name not in row])
+    met = [len(reduced([step & some for step in steps])) for some in (one, rest)]
+    return splits(steps, one, rest, sum(met))
 
 
 def lies_across(steps, even, some):

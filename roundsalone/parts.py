@@ -5,7 +5,7 @@ are then sorted as their rows are.
 """
 
 from roundsalone.blocks import is_single, lies_across, splits
-from roundsalone.masks import mask_of, reduced, row_of, table_from
+from roundsalone.masks import lessened, mask_of, reduced, row_of, table_from
 from roundsalone.spans import step_masks
 
 
@@ -23,12 +23,29 @@ def share_masks(steps, groups):
     return reduced([mask_of(groups, some) for some in crossed_ones])
 
 
+def grown(base, column):
+    """Columns of which none is a sum of others, with one more where it is no sum of them."""
+    fresh = lessened(column, base)
+    return base if fresh == 0 else base + [fresh]
+
+
+def widths(steps, many):
+    """For each mask of so many names, to how many steps comes what the steps have of it."""
+    # It comes to as many as there are columns of these names of which none is a sum of others.
+    bases = [[]]
+    for place in range(many):
+        column = sum([1 << at for at, step in enumerate(steps) if step >> place & 1 == 1])
+        bases = bases + [grown(base, column) for base in bases]
+    return [len(base) for base in bases]
+
+
 def first_parting(steps, many):
     """A mask that parts what the steps span of so many names, or 0 where there is none."""
     whole = (1 << many) - 1
+    met = widths(steps, many)
     # A rest parts just where the row does, so the highest bit may stay out.
     for some in range(1 << (many - 1)):
-        if splits(steps, some, whole ^ some):
+        if splits(steps, some, whole ^ some, met[some] + met[whole ^ some]):
             return some
     return 0
 

@@ -3,11 +3,15 @@
 import copy
 import unittest
 
+from roundsalone.ball import crossed_net, laid
 from roundsalone.blocks import block_table, blocks, crosses, is_parting
 from roundsalone.errors import NoMatch, NoRound, NoStep
 from roundsalone.houses import even_sets, rank, rounds, walls
+from roundsalone.judging import judged
 from roundsalone.nets import is_net, pieces, points, star, stars, table_of
 from roundsalone.parts import part_table, parts
+from roundsalone.quiet import quiet_ones
+from roundsalone.reading import read
 from roundsalone.roads import road
 from roundsalone.rows import is_name, is_row, meets_evenly, summed
 from roundsalone.spans import alike, crossed, is_table, steps, within
@@ -15,6 +19,7 @@ from roundsalone.steps import step_done
 from roundsalone.takings import left, shrunk, taken_out
 from roundsalone.woods import cut, walk, wood
 from tests.brute import chance_nets, chance_tables, grown_nets, lists_in, lumps, one_block_tables, spoil
+from tests.papers import five, grown_small_ones, small_ones
 
 STEPPED = (["a", "b", "c"], [["a", "c"], ["b", "c"]])
 NET = [("a", "p", "q"), ("b", "p", "q"), ("c", "r", "r")]
@@ -29,21 +34,20 @@ def asked_of_a_table(table):
     yield from ((within, (table, row)) for row in (names[:1], names[1:], [], *table[1]))
     yield from ((left, (table, [], [])), (left, (table, names[:2], names[2:3])))
     yield from ((deed, (table, name)) for deed in (taken_out, shrunk) for name in names)
-
-
-    yield (blocks, (table,))
+    yield from ((blocks, (table,)), (read, (table,)), (judged, (table,)))
     yield from ((crosses, (table, row, names[1:])) for row in table[1])
 
 
 def asked_of_a_block(table):
     """The functions that ask of a table that is one block."""
     yield from ((block_table, (table, list(table[0]))), (is_parting, (table, table[0][:2])), (parts, (table,)))
+    yield (quiet_ones, (table,))
     yield from ((part_table, (table, share)) for kind, share in parts(table))
 
 
 def asked_of_a_net(net):
     """The functions that ask of a net, with what is handed in."""
-    yield from ((deed, (net,)) for deed in (is_net, points, stars, pieces, table_of, wood))
+    yield from ((deed, (net,)) for deed in (is_net, points, stars, pieces, table_of, wood, crossed_net, laid))
     yield from ((star, (net, point)) for tie in net for point in tie[1:])
     yield from ((cut, (net, some)) for some in ([], points(net)[:2], ["none"]))
     yield from ((walk, (net, row)) for row in rounds(table_of(net)))
@@ -76,9 +80,11 @@ def all_asked():
     yield from asked_of_rows()
     for table in [STEPPED, ([], []), (["a"], []), (["a"], [["a"], ["a"]]), *chance_tables(15, 20, 8)]:
         yield from asked_of_a_table(table)
-    for table in one_block_tables(chance_tables(18, 20, 8)):
+    for table in grown_small_ones(20, 6):
+        yield from ((read, (table,)), (judged, (table,)))
+    for table in [*one_block_tables(chance_tables(18, 20, 8)), *small_ones().values()]:
         yield from asked_of_a_block(table)
-    for net in [NET, [], *chance_nets(16, 20, 8)]:
+    for net in [NET, [], five(), *chance_nets(16, 20, 8)]:
         yield from asked_of_a_net(net)
     for net in [NET, [], *grown_nets(19, 12, 8)]:
         yield from asked_of_two_nets(net)
