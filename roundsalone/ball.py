@@ -1,10 +1,10 @@
 """Nets laid on a ball, and their crossed nets."""
 
 from roundsalone.blocks import blocks
-from roundsalone.judging import judged
 from roundsalone.nets import points, star, table_of
 from roundsalone.reading import read
 from roundsalone.spans import crossed
+from roundsalone.tellings import crossed_judged
 from roundsalone.woods import walk
 
 
@@ -62,7 +62,7 @@ def lists_of(net, other):
 
 def laid(net):
     """The net laid on a ball, or takings and shrinkings that leave a net of five or six points that can't be laid."""
-    paper = judged(crossed(table_of(net)))
+    paper = crossed_judged(net)
     if paper[0] == "net":
         return ("laid", lists_of(net, paper[1]))
     word, kind, taken, shrunk_ones, told = paper

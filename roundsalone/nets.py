@@ -1,7 +1,7 @@
 """Nets: their points, stars and pieces, and their tables."""
 
 from roundsalone.rows import is_name, is_row
-from roundsalone.spans import crossed, keeps_bounds
+from roundsalone.spans import MOST_NAMES, crossed, keeps_bounds
 
 
 def is_tie(thing):
@@ -19,8 +19,9 @@ def has_net_form(thing):
 
 
 def keeps_net_bounds(net):
-    """Whether the table of a net keeps the bounds, of which that of the names is the one of the ties."""
-    return keeps_bounds(table_of(net))
+    """Whether a net has not too many ties, and its table keeps the bounds."""
+    # Of very many ties the table would take long.
+    return len(net) <= MOST_NAMES and keeps_bounds(table_of(net))
 
 
 def is_net(thing):

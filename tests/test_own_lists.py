@@ -5,9 +5,10 @@ import unittest
 
 from roundsalone.ball import crossed_net, laid
 from roundsalone.blocks import block_table, blocks, crosses, is_parting
-from roundsalone.errors import NoMatch, NoRound, NoStep
+from roundsalone.errors import NoMatch, NoRound, NoStep, TooMany
 from roundsalone.houses import even_sets, rank, rounds, walls
 from roundsalone.judging import judged
+from roundsalone.looker import lays, leads, stands
 from roundsalone.nets import is_net, pieces, points, star, stars, table_of
 from roundsalone.parts import part_table, parts
 from roundsalone.quiet import quiet_ones
@@ -17,6 +18,7 @@ from roundsalone.rows import is_name, is_row, meets_evenly, summed
 from roundsalone.spans import alike, crossed, is_table, steps, within
 from roundsalone.steps import step_done
 from roundsalone.takings import left, shrunk, taken_out
+from roundsalone.texts import read_net, read_table, show_net, show_row, show_table
 from roundsalone.woods import cut, walk, wood
 from tests.brute import chance_nets, chance_tables, grown_nets, lists_in, lumps, one_block_tables, spoil
 from tests.papers import five, grown_small_ones, small_ones
@@ -34,7 +36,8 @@ def asked_of_a_table(table):
     yield from ((within, (table, row)) for row in (names[:1], names[1:], [], *table[1]))
     yield from ((left, (table, [], [])), (left, (table, names[:2], names[2:3])))
     yield from ((deed, (table, name)) for deed in (taken_out, shrunk) for name in names)
-    yield from ((blocks, (table,)), (read, (table,)), (judged, (table,)))
+    yield from ((blocks, (table,)), (read, (table,)), (judged, (table,)), (stands, (table, judged(table))))
+    yield from ((show_table, (table,)), (show_row, (names,)), (read_table, (show_table(table),)))
     yield from ((crosses, (table, row, names[1:])) for row in table[1])
 
 
@@ -48,6 +51,7 @@ def asked_of_a_block(table):
 def asked_of_a_net(net):
     """The functions that ask of a net, with what is handed in."""
     yield from ((deed, (net,)) for deed in (is_net, points, stars, pieces, table_of, wood, crossed_net, laid))
+    yield from ((show_net, (net,)), (read_net, (show_net(net),)), (lays, (net, laid(net)[1])), (lays, (net, net)))
     yield from ((star, (net, point)) for tie in net for point in tie[1:])
     yield from ((cut, (net, some)) for some in ([], points(net)[:2], ["none"]))
     yield from ((walk, (net, row)) for row in rounds(table_of(net)))
@@ -62,6 +66,7 @@ def asked_of_two_nets(net):
     """The road to a net, to one of fewer ties, to one whose ties lie otherwise, and from it."""
     other = [(tie, *ends) for (tie, *old), (name, *ends) in zip(net, net[1:] + net[:1])]
     yield from ((road, two) for two in ((net, net), (net, net[1:]), (net, other), (other, net)))
+    yield from ((leads, (net, two, steps_told)) for two in (net, other) for steps_told in (road(net, net)[1], [], net))
     rows = [lump for point in points(net) for lump in lumps(net, [point, points(net)[0]])]
     aparts = [("apart", point, row, "n") for point in points(net) for row in rows]
     for step in [*(("turn", row) for row in rows), *aparts]:
@@ -81,7 +86,7 @@ def all_asked():
     for table in [STEPPED, ([], []), (["a"], []), (["a"], [["a"], ["a"]]), *chance_tables(15, 20, 8)]:
         yield from asked_of_a_table(table)
     for table in grown_small_ones(20, 6):
-        yield from ((read, (table,)), (judged, (table,)))
+        yield from ((read, (table,)), (judged, (table,)), (stands, (table, judged(table))))
     for table in [*one_block_tables(chance_tables(18, 20, 8)), *small_ones().values()]:
         yield from asked_of_a_block(table)
     for net in [NET, [], five(), *chance_nets(16, 20, 8)]:
@@ -94,7 +99,7 @@ def answer(deed, handed):
     """What is told, or that it is refused."""
     try:
         return deed(*handed)
-    except (NoMatch, NoRound, NoStep):
+    except (NoMatch, NoRound, NoStep, TooMany):
         return "refused"
 
 

@@ -7,53 +7,12 @@ from roundsalone.errors import NoStep, RoundError
 from roundsalone.nets import is_net, points, stars, table_of
 from roundsalone.steps import step_done
 from tests.brute import chance_nets, every_row
+from tests.words import word_apart, word_together, word_turn
 
 # Two triangles with a common tie, a loop on it, and a piece of two ties.
 NET = [("a", "p", "q"), ("b", "q", "r"), ("c", "p", "r"), ("d", "q", "s"), ("e", "p", "s"), ("f", "q", "q"),
        ("g", "x", "y"), ("h", "x", "y")]
 NEW = ("n", "0", "zzzzzz")
-
-
-def ends_at(net, ties):
-    return {point for tie, one, other in net if tie in ties for point in (one, other)}
-
-
-def in_common(net, ties):
-    return ends_at(net, ties) & ends_at(net, [tie for tie, one, other in net if tie not in ties])
-
-
-def renamed(net, ties, calls):
-    return [(tie, *sorted(calls.get(end, end) for end in ends)) if tie in ties else (tie, *ends)
-            for tie, *ends in net]
-
-
-def hung_with(net, point):
-    """All points that hang together with one."""
-    told = {point}
-    for turn in net:
-        told |= {end for tie, *ends in net if set(ends) & told for end in ends}
-    return told
-
-
-def word_turn(net, ties):
-    """The net behind a turn by the words, or None."""
-    shared = in_common(net, ties)
-    if len(shared) != 2:
-        return None
-    one, other = shared
-    return renamed(net, ties, {one: other, other: one})
-
-
-def word_apart(net, point, ties, new):
-    if in_common(net, ties) != {point} or new in points(net):
-        return None
-    return renamed(net, ties, {point: new})
-
-
-def word_together(net, point, other):
-    if point not in points(net) or other not in points(net) or other in hung_with(net, point):
-        return None
-    return renamed(net, [tie for tie, one, two in net], {other: point})
 
 
 def turns(net):
